@@ -54,3 +54,9 @@ def over(one, other):
 
 def below(one, other):
     return one[0] * other[1] < other[0] * one[1]
+
+
+def ranked(those):
+    # The places from the least fraction to the greatest; of like ones the least place comes first,
+    # since sorting leaves them in their order.
+    return sorted(range(len(those)), key=lambda place: len([one for one in those if below(one, those[place])]))

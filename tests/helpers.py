@@ -1,8 +1,12 @@
-"""What several tests use: things of all kinds, pieces on a grid, and a piece's form."""
+"""What several tests use: things of all kinds, pieces on a grid, a piece's form, and refusals."""
 
 import decimal
 import fractions
 import math
+
+from fairknife.tastes import Taste
+
+HUGE = 10 ** 5000
 
 
 class Prickly:
@@ -60,6 +64,69 @@ def no_fractions():
     return ends + [thing for thing in no_whole_numbers() if not isinstance(thing, tuple)]
 
 
+def bad_pieces():
+    """Lists that are no pieces."""
+    first = ((0, 1), (1, 3))
+    last = ((2, 3), (1, 1))
+    half = (1, 2)
+    bad = [
+        # Spans beyond the cake.
+        [((0, 1), (2, 1))], [((0, 1), (HUGE + 1, HUGE))], [((1, 1), (2, 1))], [((3, 2), (2, 1))],
+        [first, ((2, 3), (4, 3))],
+        # The first end isn't below the second one.
+        [(half, half)], [((0, 1), (0, 1))], [((1, 1), (1, 1))], [(half, (1, 3))], [((1, 1), (0, 1))],
+        [first, (half, half), last], [first, (half, half)], [(half, half), last],
+        # Spans that don't rise.
+        [last, first], [((0, 1), (1, 5)), ((3, 5), (4, 5)), ((2, 5), (1, 2))],
+        # Spans that touch.
+        [((0, 1), half), (half, (1, 1))], [first, ((1, 3), half), last], [first, (half, (2, 3)), last],
+        # Spans that lie over one another.
+        [((0, 1), half), ((1, 3), (1, 1))], [first, first], [((0, 1), (1, 1)), ((1, 3), half)],
+        [((1, 3), half), ((0, 1), (1, 1))], [((0, 1), half), ((0, 1), (1, 1))], [first, last, last],
+        # A list in a tuple's place, and a tuple too many or too few.
+        [[(0, 1), (1, 1)]], [[[0, 1], [1, 1]]], [first, list(last)], [[first]], [(first,)], [(first, last)],
+        [((0, 1), half, (1, 1))], [((0, 1),)], [()], [(0, 1)], [(0, 1), (1, 1)], [(0, 1, 1, 1)], ["01"],
+        [first, None], [None, last], [first, []], [{}], [{(0, 1): 0, (1, 1): 1}],
+    ]
+    for thing in no_fractions():
+        bad.append([(thing, (1, 1))])
+        bad.append([((0, 1), thing)])
+        bad.append([(thing, thing)])
+        bad.append([first, (thing, (1, 1))])
+        bad.append([first, ((2, 3), thing)])
+    for thing in no_spans():
+        bad.append([thing])
+        bad.append([first, thing])
+    itself = []
+    itself.append(itself)
+    bad.append(itself)
+    return bad
+
+
+class TasteLike:
+    """Answers like a Taste, and is none."""
+
+    def __init__(self):
+        self.taste = Taste([((1, 1), 1)])
+
+    def steps(self):
+        return self.taste.steps()
+
+    def worth(self, piece):
+        return self.taste.worth(piece)
+
+    def mark(self, start, share):
+        return self.taste.mark(start, share)
+
+    def cut(self, piece, share):
+        return self.taste.cut(piece, share)
+
+
+def no_tastes():
+    """Things that are no Taste."""
+    return no_lists() + [[], [((1, 1), 1)], ((1, 1), 1), "1@1", Taste, TasteLike(), [Taste([((1, 1), 1)])]]
+
+
 def end(a, b):
     common = math.gcd(a, b)
     return (a // common, b // common)
@@ -97,3 +164,13 @@ def assert_piece(case, piece):
         if last is not None:
             case.assertLess(last, start)
         last = stop
+
+
+def assert_refused(case, error_class, ask, *things):
+    """Refused by just that class; not by assertRaises, which takes the classes under it too."""
+    try:
+        ask(*things)
+    except error_class as error:
+        case.assertIs(type(error), error_class)
+    else:
+        case.fail("not refused")

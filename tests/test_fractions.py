@@ -5,7 +5,7 @@ import math
 import unittest
 
 from fairknife.errors import BadFraction
-from fairknife.fractions import below, is_fraction, made, minus, over, plus, times
+from fairknife.fractions import below, is_fraction, made, minus, over, plus, ranked, times
 from tests.helpers import no_fractions, no_whole_numbers
 
 HUGE = 10 ** 6000
@@ -153,3 +153,14 @@ class Reckoning(FractionCase):
             self.assertIs(below(one, one), False)
             for other in ALL:
                 self.assertIs(below(one, other), number(one) < number(other))
+
+
+class Ranked(unittest.TestCase):
+    def test_from_least_to_greatest(self):
+        self.assertEqual(ranked([]), [])
+        self.assertEqual(ranked([(1, 2)]), [0])
+        self.assertEqual(ranked([(1, 2), (1, 3), (2, 3)]), [1, 0, 2])
+        self.assertEqual(ranked([(9, 10), (1, 1), (0, 1), (8, 9)]), [2, 3, 0, 1])
+
+    def test_of_like_ones_the_least_place_first(self):
+        self.assertEqual(ranked([(1, 2), (1, 3), (1, 2), (1, 3), (1, 2)]), [1, 3, 0, 2, 4])

@@ -4,12 +4,11 @@ import copy
 import itertools
 import unittest
 
-from fairknife.errors import BadPiece, CakeError
+from fairknife.errors import BadPiece
 from fairknife.pieces import deals, joined, shared, whole, without
-from tests.helpers import assert_piece, no_fractions, no_lists, no_spans, piece_of_cells
+from tests.helpers import HUGE, assert_piece, assert_refused, bad_pieces, no_lists, piece_of_cells
 
 CAKE = [((0, 1), (1, 1))]
-HUGE = 10 ** 5000
 
 
 def halves():
@@ -232,55 +231,9 @@ class Deals(unittest.TestCase):
         self.assertIs(deals([whole()]), True)
 
 
-def bad_pieces():
-    """Lists that are no pieces."""
-    first = ((0, 1), (1, 3))
-    last = ((2, 3), (1, 1))
-    half = (1, 2)
-    bad = [
-        # Spans beyond the cake.
-        [((0, 1), (2, 1))], [((0, 1), (HUGE + 1, HUGE))], [((1, 1), (2, 1))], [((3, 2), (2, 1))],
-        [first, ((2, 3), (4, 3))],
-        # The first end isn't below the second one.
-        [(half, half)], [((0, 1), (0, 1))], [((1, 1), (1, 1))], [(half, (1, 3))], [((1, 1), (0, 1))],
-        [first, (half, half), last], [first, (half, half)], [(half, half), last],
-        # Spans that don't rise.
-        [last, first], [((0, 1), (1, 5)), ((3, 5), (4, 5)), ((2, 5), (1, 2))],
-        # Spans that touch.
-        [((0, 1), half), (half, (1, 1))], [first, ((1, 3), half), last], [first, (half, (2, 3)), last],
-        # Spans that lie over one another.
-        [((0, 1), half), ((1, 3), (1, 1))], [first, first], [((0, 1), (1, 1)), ((1, 3), half)],
-        [((1, 3), half), ((0, 1), (1, 1))], [((0, 1), half), ((0, 1), (1, 1))], [first, last, last],
-        # A list in a tuple's place, and a tuple too many or too few.
-        [[(0, 1), (1, 1)]], [[[0, 1], [1, 1]]], [first, list(last)], [[first]], [(first,)], [(first, last)],
-        [((0, 1), half, (1, 1))], [((0, 1),)], [()], [(0, 1)], [(0, 1), (1, 1)], [(0, 1, 1, 1)], ["01"],
-        [first, None], [None, last], [first, []], [{}], [{(0, 1): 0, (1, 1): 1}],
-    ]
-    for thing in no_fractions():
-        bad.append([(thing, (1, 1))])
-        bad.append([((0, 1), thing)])
-        bad.append([(thing, thing)])
-        bad.append([first, (thing, (1, 1))])
-        bad.append([first, ((2, 3), thing)])
-    for thing in no_spans():
-        bad.append([thing])
-        bad.append([first, thing])
-    itself = []
-    itself.append(itself)
-    bad.append(itself)
-    return bad
-
-
 class Refusals(unittest.TestCase):
     def assert_refused(self, ask, *things):
-        try:
-            ask(*things)
-        except BadPiece as error:
-            self.assertIs(type(error), BadPiece)
-            self.assertIsInstance(error, CakeError)
-            self.assertIsInstance(error, ValueError)
-        else:
-            self.fail("not refused")
+        assert_refused(self, BadPiece, ask, *things)
 
     def test_no_piece_in_either_place(self):
         for place, thing in enumerate(bad_pieces() + no_lists()):
